@@ -12,6 +12,12 @@ def is_within(thing, least, most):
     return is_whole(thing) and least <= thing <= most
 
 
+def is_text_of(thing, most, first, last):
+    if not isinstance(thing, str) or not 1 <= len(thing) <= most:
+        return False
+    return all([first <= sign <= last for sign in thing])
+
+
 # last is None as long as no turn was told: then every turn is good.
 def refuse_below(turn, last):
     if last is not None and turn < last:

@@ -2,7 +2,7 @@
 
 import unittest
 
-from roadnet.common import is_whole, is_within, own_copy, refuse_below
+from roadnet.common import is_text_of, is_whole, is_within, own_copy, refuse_below
 from tests.cases import PastCase
 
 
@@ -25,6 +25,22 @@ class TestWhole(unittest.TestCase):
         for thing in (True, 1.0, None, "1"):
             with self.subTest(thing=thing):
                 self.assertIs(is_within(thing, 0, 4), False)
+
+
+class TestTextOf(unittest.TestCase):
+    def test_lengths(self):
+        answers = [is_text_of("b" * many, 3, "b", "d") for many in range(6)]
+        self.assertEqual(answers, [False, True, True, True, False, False])
+
+    def test_each_sign_from_the_first_to_the_last(self):
+        for text, told in (("b", True), ("d", True), ("bcd", True), ("a", False), ("e", False), ("bae", False)):
+            with self.subTest(text=text):
+                self.assertIs(is_text_of(text, 3, "b", "d"), told)
+
+    def test_what_is_no_text(self):
+        for thing in (None, True, 1, b"b", ("b",), ["b"], {"b": 1}):
+            with self.subTest(thing=thing):
+                self.assertIs(is_text_of(thing, 3, "b", "d"), False)
 
 
 class TestBelow(PastCase):
