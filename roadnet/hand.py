@@ -67,6 +67,10 @@ class Hand:
     def way_to(self, goal):
         return (self.ways.next_of(goal), self.ways.price_of(goal))
 
+    # Of each of its streams all that was put is known to be there.
+    def is_heard_out(self):
+        return all([teller.base == teller.many() for teller in self.tellers.values()])
+
     # Step 5. The names are those of the asks that were put off to it, in their order. Told are rows.
     def work(self, turn, names):
         rows = []
